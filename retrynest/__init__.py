@@ -1,0 +1,1 @@
+"""Nested retry policies and their unique nesting."""

@@ -5,11 +5,9 @@ import inspect
 import itertools
 import unittest
 
-from helpers import Raising, by_layers, by_numbers
-from retrynest.errors import InvalidLayer, InvalidWait, RetryError, TooManyAttempts
+from helpers import HIGH, INVALID, Raising, by_layers, by_numbers
+from retrynest.errors import InvalidWait, RetryError, TooManyAttempts
 from retrynest.policies import attempts, flatten, nest
-
-HIGH = 10 ** 12 - 1
 
 ORDINARY = [
     [], [0], [5], [HIGH], [0, 0], [1, 2], [7, 7, 7], [1, 2, 1], [4, 0, HIGH, 2], [3, 1, 4, 1, 5, 9, 2], [6] * 12,
@@ -240,45 +238,12 @@ class Flatten(Raising):
         self.assertEqual(flatten(nesting), [1] * 9999)
 
 
-INVALID = [
-    (0, [[-1]]),
-    (0, [[0, 5, -1]]),
-    (1, [[0, 5], [3, -1]]),
-    (0, [(-1, 5)]),
-    (0, [(-1, 1)]),
-    (0, [(-HIGH, 1)]),
-    (2, [(0, 1), [], (-1, 1)]),
-    (1, [[1], (-1, 2), [2]]),
-    (0, [(0, 0)]),
-    (0, [(3, 0)]),
-    (0, [(3, -1)]),
-    (0, [(3, -10 ** 20)]),
-    (0, [(-3, -3)]),
-    (1, [(3, 1), (3, 0)]),
-    (2, [(3, 4), [1, 2], (0, 0)]),
-    (1, [[1], [-1], (-1, 1), (1, 0)]),
-    (1, [[1], (1, 0), [-1], (-1, 1)]),
-    (1, [[1], (-1, 1), (1, 0), [-1]]),
-    (7, [[1], (1, 3), [2], (0, 1), [], [4, 5], (6, 2), [-1]]),
-    (7, [[1], (1, 3), [2], (0, 1), [], [4, 5], (6, 2), (7, 0)]),
-    (1, [(1, 10 ** 19), [-1]]),
-    (1, [(1, 10 ** 19), (-1, 1)]),
-    (1, [(1, 10 ** 19), (1, 0)]),
-    (0, [(-1, 10 ** 19)]),
-    (2, [(1, 10000), [1], [5, -1], (1, 10000)]),
-]
-
-
 class NestingErrors(Raising):
     def test_attempts(self):
-        for index, nesting in INVALID:
-            with self.subTest(nesting=nesting):
-                self.check(InvalidLayer, index, lambda: attempts(nesting))
+        self.check_layers(attempts)
 
     def test_flatten(self):
-        for index, nesting in INVALID:
-            with self.subTest(nesting=nesting):
-                self.check(InvalidLayer, index, lambda: flatten(nesting))
+        self.check_layers(flatten)
 
 
 class Arguments(unittest.TestCase):

@@ -6,12 +6,10 @@ import itertools
 import math
 import unittest
 
-from helpers import Raising
+from helpers import HIGH, Raising
 from retrynest.errors import InvalidNumber, InvalidWait, RetryError
 from retrynest.policies import flatten, nest
 from retrynest.splitting import inner_numbers, split
-
-HIGH = 10 ** 12 - 1
 
 POLICIES = [
     [],

@@ -101,6 +101,38 @@ def is_normal(nesting):
     return isinstance(nesting, list) and all(is_normal_layer(layer) for layer in nesting)
 
 
+def times_of(waits):
+    """The times of all attempts of a policy, as in point [4]."""
+    return [sum(waits[:attempt]) for attempt in range(len(waits) + 1)]
+
+
+def by_counting(nesting, attempt):
+    """The time of an attempt of constant layers: how often each wait stands before it."""
+    inside = 1
+    time = 0
+    for wait, count in nesting:
+        time += wait * (attempt // inside - attempt // (inside * count))
+        inside *= count
+    return time
+
+
+def all_policies(kinds, most):
+    """All policies with at most so many waits, each below `kinds`."""
+    for length in range(most + 1):
+        yield from map(list, itertools.product(range(kinds), repeat=length))
+
+
+def results_of_nesting(kinds, most):
+    """All policies with at most so many waits that two policies that are not trivial give."""
+    found = set()
+    policies = [waits for waits in all_policies(kinds, most // 2) if waits]
+    for inner in policies:
+        for outer in policies:
+            if (len(inner) + 1) * (len(outer) + 1) <= most + 1:
+                found.add(tuple(by_numbers(inner, outer)))
+    return found
+
+
 def lists_of(value):
     """A value, if it is a list, and all lists in it."""
     if isinstance(value, (list, tuple)):

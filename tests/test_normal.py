@@ -6,7 +6,8 @@ import itertools
 import unittest
 
 from helpers import (
-    HIGH, LAYERS, MANY, Keeping, Raising, by_layers, by_numbers, is_normal, is_single, scramble, short_nestings,
+    HIGH, LAYERS, MANY, Keeping, Raising, all_policies, by_layers, by_numbers, is_normal, is_single,
+    results_of_nesting, scramble, short_nestings,
 )
 from retrynest.errors import InvalidLayer, InvalidWait
 from retrynest.normal import is_unsplittable, normal_form, same_policy
@@ -14,22 +15,6 @@ from retrynest.policies import attempts, flatten
 
 PRIMES = [2, 3, 5, 7, 11, 13, 59, 61, 97, 199, 9973]
 COMPOSITES = [4, 6, 8, 9, 12, 25, 49, 60, 121, 187, 200, 9409, 10000]
-
-
-def all_policies(kinds, most):
-    for length in range(most + 1):
-        yield from map(list, itertools.product(range(kinds), repeat=length))
-
-
-def results_of_nesting(kinds, most):
-    """All policies with at most so many waits that two policies that are not trivial give."""
-    found = set()
-    policies = [waits for waits in all_policies(kinds, most) if waits]
-    for inner in policies:
-        for outer in policies:
-            if (len(inner) + 1) * (len(outer) + 1) <= most + 1:
-                found.add(tuple(by_numbers(inner, outer)))
-    return found
 
 
 class Interface(Raising):

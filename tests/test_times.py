@@ -4,7 +4,7 @@ import inspect
 import itertools
 import unittest
 
-from helpers import HIGH, MANY, Keeping, Raising, by_layers, short_nestings, written_out
+from helpers import HIGH, MANY, Keeping, Raising, by_counting, by_layers, short_nestings, times_of, written_out
 from retrynest.errors import InvalidNumber
 from retrynest.normal import normal_form
 from retrynest.policies import attempts, flatten
@@ -34,26 +34,12 @@ LARGE = [
 ]
 
 
-def times_of(waits):
-    return [sum(waits[:attempt]) for attempt in range(len(waits) + 1)]
-
-
 def first_from(times, time):
     """The first attempt whose time is at least `time`, as the interface says it."""
     for attempt, found in enumerate(times):
         if found >= time:
             return attempt
     return None
-
-
-def by_counting(nesting, attempt):
-    """The time of an attempt of constant layers: how often each wait stands before it."""
-    inside = 1
-    time = 0
-    for wait, count in nesting:
-        time += wait * (attempt // inside - attempt // (inside * count))
-        inside *= count
-    return time
 
 
 def some_numbers(nesting, total):
